@@ -1,0 +1,35 @@
+"""What parameters of the same name must be everywhere: each check raises the error if not.
+
+The machine is passed along, so this file needs none of those that define machines.
+"""
+
+from loosebeats.errors import InvalidNumber, InvalidStanding, InvalidStreams
+from loosebeats.kinds import are_rows, are_streams, is_below
+
+
+def check_number(machine, number):
+    """Raises InvalidNumber unless it is the number of a reaction of the machine."""
+    if not is_below(number, len(machine)):
+        raise InvalidNumber(number)
+
+
+def check_standing(machine, standing):
+    """Raises InvalidStanding unless it is a standing of the machine."""
+    if not is_below(standing, machine.standings):
+        raise InvalidStanding(standing)
+
+
+def check_streams(machine, streams):
+    """Raises InvalidStreams unless they are streams of the machine."""
+    if not are_streams(streams, machine.ins):
+        raise InvalidStreams(streams)
+
+
+def is_end(machine, value):
+    """Tells whether any value has the form of an END of the machine."""
+    if not isinstance(value, tuple) or len(value) != 3:
+        return False
+    standing, rests, flows = value
+    if not is_below(standing, machine.standings):
+        return False
+    return are_rows(rests, len(machine.ins)) and are_rows(flows, len(machine.outs))
