@@ -3,8 +3,8 @@
 The machine is passed along, so this file needs none of those that define machines.
 """
 
-from loosebeats.errors import InvalidNumber, InvalidStanding, InvalidStreams
-from loosebeats.kinds import are_rows, are_streams, is_below
+from loosebeats.errors import InvalidNumber, InvalidStanding, InvalidStreams, NotReached
+from loosebeats.kinds import are_rows, are_streams, is_below, is_tuple
 
 
 def check_number(machine, number):
@@ -19,6 +19,12 @@ def check_standing(machine, standing):
         raise InvalidStanding(standing)
 
 
+def check_reached(machine, standing):
+    """Raises NotReached unless some run comes to the standing."""
+    if standing not in machine.reached():
+        raise NotReached(standing)
+
+
 def check_streams(machine, streams):
     """Raises InvalidStreams unless they are streams of the machine."""
     if not are_streams(streams, machine.ins):
@@ -27,7 +33,7 @@ def check_streams(machine, streams):
 
 def is_end(machine, value):
     """Tells whether any value has the form of an END of the machine."""
-    if not isinstance(value, tuple) or len(value) != 3:
+    if not is_tuple(value, 3):
         return False
     standing, rests, flows = value
     if not is_below(standing, machine.standings):

@@ -37,6 +37,16 @@ def is_list(value):
     return isinstance(value, (list, tuple))
 
 
+def is_tuple(value, many):
+    """Tells whether a value is a tuple of so many."""
+    return isinstance(value, tuple) and len(value) == many
+
+
+def are_integers(value):
+    """Tells whether all parts of a list or tuple are INTEGERS."""
+    return all([is_integer(part) for part in value])
+
+
 def is_line(value, lines):
     """Tells whether a value is one of the lines."""
     # A value of another kind must not be asked whether it equals a name.
@@ -64,6 +74,4 @@ def are_streams(value, lines):
 
 def are_rows(value, many):
     """Tells whether a value is a tuple of so many tuples of worths."""
-    if not isinstance(value, tuple) or len(value) != many:
-        return False
-    return all([isinstance(row, tuple) and is_stream(row) for row in value])
+    return is_tuple(value, many) and all([isinstance(row, tuple) and is_stream(row) for row in value])

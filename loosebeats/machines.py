@@ -12,7 +12,7 @@ from loosebeats.errors import (
     SharedLine,
     TooMany,
 )
-from loosebeats.kinds import are_worths, is_below, is_integer, is_line, is_list, is_name
+from loosebeats.kinds import are_worths, is_below, is_integer, is_line, is_list, is_name, is_tuple
 
 MOST_INS = 4
 MOST_OUTS = 3
@@ -56,7 +56,7 @@ def paired(worths, lines):
 def packed(value, ins, outs, standings):
     """A reaction with pairs in place of dicts; None if the value is no reaction of these."""
     # Equal reactions are packed alike, however the keys of their dicts are ordered.
-    if not isinstance(value, tuple) or len(value) != 4:
+    if not is_tuple(value, 4):
         return None
     standing, takes, gives, goal = value
     if not is_below(standing, standings) or not is_below(goal, standings):
@@ -234,9 +234,14 @@ def do_agree(machine, one, other):
     return all([takes_too.get(line, worth) == worth for line, worth in takes.items()])
 
 
-def heads(machine, one, other):
-    """The dict from the in-lines that one of two agreeing reactions takes to these worths."""
+def check_agreeing(machine, one, other):
+    """Raises NotAgreeing unless two reactions, by their numbers, agree."""
     if not do_agree(machine, one, other):
         raise NotAgreeing(one, other)
+
+
+def heads(machine, one, other):
+    """The dict from the in-lines that one of two agreeing reactions takes to these worths."""
+    check_agreeing(machine, one, other)
     both = {**machine[one][1], **machine[other][1]}
     return {line: both[line] for line in machine.ins if line in both}

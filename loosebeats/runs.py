@@ -4,11 +4,14 @@ from loosebeats.checks import check_standing, check_streams, is_end
 from loosebeats.errors import InvalidArrivals, InvalidCount, InvalidRule, NoSuch, TooMany
 from loosebeats.goals import run_in
 from loosebeats.graphs import counts_of, fewest_of, first_of, graph_of, most_of
-from loosebeats.kinds import is_count, is_integer, is_line, is_list, is_worth
+from loosebeats.kinds import are_integers, is_count, is_line, is_list, is_tuple, is_worth
 from loosebeats.steps import (
     can_take,
     end_at,
+    first_place,
+    first_step,
     flows_behind,
+    full_way,
     no_flows,
     no_spots,
     place_behind,
@@ -43,7 +46,7 @@ def is_full(machine, streams, run):
     check_streams(machine, streams)
     queues = queues_of(machine, streams)
     standing, spots, _ = place_of_run(machine, queues, run)
-    return not any([can_take(step[1], queues, spots) for step in steps_of(machine)[standing]])
+    return first_step(steps_of(machine)[standing], queues, spots) is None
 
 
 def taken(machine, run):
@@ -173,7 +176,7 @@ def check_arrivals(machine, arrivals):
         raise InvalidArrivals(None)
     ins = machine.ins
     for position, arrival in enumerate(arrivals):
-        if not isinstance(arrival, tuple) or len(arrival) != 2:
+        if not is_tuple(arrival, 2):
             raise InvalidArrivals(position)
         if not is_line(arrival[0], ins) or not is_worth(arrival[1]):
             raise InvalidArrivals(position)
@@ -181,18 +184,10 @@ def check_arrivals(machine, arrivals):
 
 def check_rule(machine, rule):
     """Raises InvalidRule unless it has each number of a reaction once."""
-    if not is_list(rule) or not all([is_integer(number) for number in rule]):
+    if not is_list(rule) or not are_integers(rule):
         raise InvalidRule(rule)
     if sorted(rule) != list(range(len(machine))):
         raise InvalidRule(rule)
-
-
-def first_step(steps, queues, spots):
-    """The first one of the steps that can be done; None if none can."""
-    for step in steps:
-        if can_take(step[1], queues, spots):
-            return step
-    return None
 
 
 def eager(machine, arrivals, rule):
@@ -202,11 +197,8 @@ def eager(machine, arrivals, rule):
     ins = machine.ins
     ruled = [sorted(steps, key=lambda each: rule.index(each[0])) for steps in steps_of(machine)]
     queues = [[] for _ in ins]
-    place = (0, no_spots(machine), no_flows(machine))
+    place = first_place(machine)
     for line, worth in arrivals:
         queues[ins.index(line)].append(worth)
-        step = first_step(ruled[place[0]], queues, place[1])
-        while step is not None:
-            place = place_behind(place, step)
-            step = first_step(ruled[place[0]], queues, place[1])
+        place = place_behind(place, full_way(ruled, queues, place))
     return end_at(queues, place)

@@ -3,7 +3,8 @@
 A STEP is a tuple (number, takes, gives, next) of a reaction of some standing: takes and
 gives are tuples of pairs (place of the line, worth). QUEUES are a list with, for each
 in-line, its whole stream. SPOTS are a tuple that tells how much of each queue is taken.
-A PLACE is a tuple (standing, spots, flows): so far a run has come.
+A PLACE is a tuple (standing, spots, flows): so far a run has come. A WAY is the list of
+the steps of a run.
 """
 
 from loosebeats.errors import InvalidRun
@@ -68,11 +69,22 @@ def flows_behind(flows, gives):
     return tuple([flow + (worths[at],) if at in worths else flow for at, flow in enumerate(flows)])
 
 
-def place_behind(place, step):
-    """The place to which a step leads."""
-    _, spots, flows = place
-    _, takes, gives, goal = step
-    return (goal, spots_behind(spots, takes), flows_behind(flows, gives))
+def first_place(machine):
+    """The place at which each run begins."""
+    return (0, no_spots(machine), no_flows(machine))
+
+
+def place_behind(place, way):
+    """The place to which the steps of a way lead."""
+    standing, spots, flows = place
+    # Tuples that grow by one worth at each step would cost too much on long ways.
+    given = [list(flow) for flow in flows]
+    for _, takes, gives, goal in way:
+        spots = spots_behind(spots, takes)
+        standing = goal
+        for at, worth in gives:
+            given[at].append(worth)
+    return (standing, spots, tuple([tuple(flow) for flow in given]))
 
 
 def end_at(queues, place):
@@ -82,18 +94,47 @@ def end_at(queues, place):
     return (standing, rests, flows)
 
 
-def place_of_run(machine, queues, run):
-    """The place to which a run of the queues leads; raises InvalidRun if it is none."""
+def first_step(steps, queues, spots):
+    """The first one of the steps that can be done; None if none can."""
+    for step in steps:
+        if can_take(step[1], queues, spots):
+            return step
+    return None
+
+
+def full_way(steps, queues, place):
+    """What is done from a place on, always the first step that can be, until none can."""
+    standing, spots, _ = place
+    way = []
+    step = first_step(steps[standing], queues, spots)
+    while step is not None:
+        way.append(step)
+        spots = spots_behind(spots, step[1])
+        standing = step[3]
+        step = first_step(steps[standing], queues, spots)
+    return way
+
+
+def way_from(steps, queues, place, run):
+    """The steps of a run of the queues from a place on; raises InvalidRun if it is none."""
     if not is_list(run):
         raise InvalidRun(None)
-    steps = steps_of(machine)
-    place = (0, no_spots(machine), no_flows(machine))
+    standing, spots, _ = place
+    way = []
     for position, number in enumerate(run):
-        step = step_numbered(steps[place[0]], number)
-        if step is None or not can_take(step[1], queues, place[1]):
+        step = step_numbered(steps[standing], number)
+        if step is None or not can_take(step[1], queues, spots):
             raise InvalidRun(position)
-        place = place_behind(place, step)
-    return place
+        way.append(step)
+        spots = spots_behind(spots, step[1])
+        standing = step[3]
+    return way
+
+
+def place_of_run(machine, queues, run):
+    """The place to which a run of the queues leads; raises InvalidRun if it is none."""
+    place = first_place(machine)
+    return place_behind(place, way_from(steps_of(machine), queues, place, run))
 
 
 def way_of_run(machine, run):

@@ -1,7 +1,6 @@
 """Streams and runs: what can be done, all full runs, arrivals."""
 
 import copy
-import inspect
 import random
 import unittest
 
@@ -34,7 +33,6 @@ from loosebeats.runs import (
 )
 from samples import (
     Case,
-    Same,
     all_runs_up_to,
     brute_full,
     chooser,
@@ -44,6 +42,7 @@ from samples import (
     made_up,
     odd_values,
     race,
+    wrong_streams,
 )
 
 ONE_EACH = {"a": [0], "b": [0]}
@@ -76,26 +75,9 @@ SEARCHES = [
 ]
 
 
-def wrong_streams():
-    """Values that are no streams of a machine with the in-lines a and b and the out-line o."""
-    yield from [*odd_values(), 1, "ab", [], (), [("a", [0])], ["a"]]
-    for line in ["o", "c", "", 0, True, None, ("a",), b"a", Same()]:
-        yield {line: [0]}
-        yield {"b": [0], line: []}
-    for stream in [*odd_values(), 0, "0", {}, {"a": 0}]:
-        yield {"a": stream}
-        yield {"b": [0], "a": stream}
-    for worth in [*odd_values(), -1, 10, "0", [0], (0,), 10**29]:
-        yield {"a": [0, worth]}
-        yield {"a": (worth,), "b": [0]}
-
-
-class Interface(unittest.TestCase):
+class Interface(Case):
     def test_what_is_listed_is_defined_there_with_its_names(self):
-        for name, params in PARAMETERS.items():
-            function = vars(runs)[name]
-            self.assertEqual(function.__module__, "loosebeats.runs")
-            self.assertEqual(list(inspect.signature(function).parameters), params)
+        self.listed(runs, PARAMETERS)
 
     def test_examples(self):
         self.assertEqual(
