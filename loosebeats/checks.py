@@ -3,8 +3,8 @@
 The machine is passed along, so this file needs none of those that define machines.
 """
 
-from loosebeats.errors import InvalidNumber, InvalidStanding, InvalidStreams, NotReached
-from loosebeats.kinds import are_rows, are_streams, is_below, is_tuple
+from loosebeats.errors import InvalidLine, InvalidNumber, InvalidStanding, InvalidStreams, NotReached
+from loosebeats.kinds import are_rows, are_streams, is_below, is_line, is_tuple
 
 
 def check_number(machine, number):
@@ -23,6 +23,12 @@ def check_reached(machine, standing):
     """Raises NotReached unless some run comes to the standing."""
     if standing not in machine.reached():
         raise NotReached(standing)
+
+
+def check_line(machine, line):
+    """Raises InvalidLine unless it is an in-line or an out-line of the machine."""
+    if not is_line(line, machine.ins + machine.outs):
+        raise InvalidLine(line)
 
 
 def check_streams(machine, streams):

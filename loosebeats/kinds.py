@@ -2,6 +2,7 @@
 
 MOST_LETTERS = 8
 MOST_WORTH = 9
+NOTICE = 9
 
 
 def is_integer(value):

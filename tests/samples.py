@@ -5,6 +5,7 @@ import itertools
 import unittest
 
 from loosebeats.machines import Machine
+from loosebeats.stores import Pair
 
 
 class Case(unittest.TestCase):
@@ -278,3 +279,118 @@ def are_strict(value):
     if isinstance(value, (list, tuple)):
         return all(are_strict(inner) for inner in value)
     return type(value) in (int, str)
+
+
+def pair_lines(first, second):
+    """Stores, in-lines and out-lines of a pair, by the words of [71]."""
+    stores = [line for line in first.outs if line in second.ins]
+    ins = first.ins + [line for line in second.ins if line not in stores]
+    outs = [line for line in first.outs if line not in stores] + second.outs
+    return stores, ins, outs
+
+
+class Table:
+    """A pair at a place, on which beats are done by the words of [71]; sizes are a tuple."""
+
+    def __init__(self, pair, streams, sizes):
+        self.machines = (pair.first, pair.second)
+        self.names, self.ins, self.outs = pair_lines(pair.first, pair.second)
+        self.sizes = dict(zip(self.names, sizes))
+        self.standings = [0, 0]
+        self.stores = {line: [] for line in self.names}
+        self.rests = {line: list(streams.get(line, [])) for line in self.ins}
+        self.flows = {line: [] for line in self.outs}
+
+    def copied(self):
+        other = object.__new__(Table)
+        other.machines, other.names, other.ins, other.outs = self.machines, self.names, self.ins, self.outs
+        other.sizes, other.standings = self.sizes, list(self.standings)
+        other.stores, other.rests, other.flows = (
+            {line: list(inner) for line, inner in part.items()} for part in (self.stores, self.rests, self.flows)
+        )
+        return other
+
+    def stands_there(self, which, number):
+        """Whether it is a reaction of its machine's standing and all that it takes stands there."""
+        standing, takes, _, _ = self.machines[which][number]
+        both = {**self.rests, **self.stores}
+        return standing == self.standings[which] and all(both[line][:1] == [worth] for line, worth in takes.items())
+
+    def has_room(self, which, number):
+        gives = self.machines[which][number][2]
+        return which == 1 or all(
+            self.sizes[line] is None or len(self.stores[line]) < self.sizes[line] for line in gives if line in self.stores
+        )
+
+    def beats(self):
+        """All beats that can be done."""
+        both = [(which, number) for which in (0, 1) for number in range(len(self.machines[which]))]
+        return [beat for beat in both if self.stands_there(*beat) and self.has_room(*beat)]
+
+    def do(self, beat):
+        which, number = beat
+        _, takes, gives, goal = self.machines[which][number]
+        for line in takes:
+            (self.stores if line in self.stores else self.rests)[line].pop(0)
+        for line, worth in gives.items():
+            (self.stores if line in self.stores else self.flows)[line].append(worth)
+        self.standings[which] = goal
+
+    def lacks_room(self):
+        """Whether a reaction could be done without bounds that cannot be done with them."""
+        numbers = range(len(self.machines[0]))
+        return any(self.stands_there(0, number) and not self.has_room(0, number) for number in numbers)
+
+    def end(self):
+        parts = (self.stores, self.rests, self.flows)
+        return (*self.standings, *(tuple(tuple(inner) for inner in part.values()) for part in parts))
+
+
+def pair_tables(pair, streams, sizes):
+    """All places at which full runs of a pair end, by doing everything; each place is looked at once."""
+    begin = Table(pair, streams, sizes)
+    seen, waiting, found = {begin.end()}, [begin], []
+    while waiting:
+        table = waiting.pop()
+        beats = table.beats()
+        for beat in beats:
+            later = table.copied()
+            later.do(beat)
+            if later.end() not in seen:
+                seen.add(later.end())
+                waiting.append(later)
+        if not beats:
+            found.append(table)
+    return found
+
+
+def pair_walk(pair, streams, sizes, run):
+    """Where a run of a pair leads; None if it is none."""
+    table = Table(pair, streams, sizes)
+    for beat in run:
+        if type(beat) is not tuple or [type(part) for part in beat] != [int, int] or beat not in table.beats():
+            return None
+        table.do(beat)
+    return table
+
+
+def some_pair(rng, stores=None, standings=2, reactions=5):
+    """A small pair, by a random source: one or two stores, with other lines beside them or not."""
+    names = ["o", "p"][: stores or rng.randint(1, 2)]
+    return Pair(
+        part(rng, ["a", "b"][: rng.randint(1, 2)], names + ["x"][: rng.randint(0, 1)], standings, reactions, 0.7),
+        part(rng, names + ["c"][: rng.randint(0, 1)], ["y"][: rng.randint(0, 1)], standings, reactions, 0.4),
+    )
+
+
+def part(rng, ins, outs, standings, reactions, gives):
+    many = rng.randint(1, standings)
+    rows = []
+    for _ in range(rng.randint(1, reactions)):
+        takes = {line: int(rng.random() < 0.2) for line in rng.sample(ins, rng.choice([1, 1, 1, len(ins)]))}
+        given = {line: int(rng.random() < 0.2) for line in outs if rng.random() < gives}
+        row = (rng.randrange(many), takes, given, rng.randrange(many))
+        if row not in rows:
+            rows.append(row)
+    rng.shuffle(ins)
+    return Machine(ins, outs, many, rows)
