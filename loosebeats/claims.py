@@ -25,7 +25,7 @@ def are_twins(parts):
 
 def are_for_lines(parts, many):
     """Tells whether the parts begin with a Machine, and so many of its lines."""
-    if len(parts) < many + 1 or not isinstance(parts[0], Machine):
+    if not isinstance(parts[0], Machine):
         return False
     lines = parts[0].ins + parts[0].outs
     return all([is_line(part, lines) for part in parts[1:many + 1]])

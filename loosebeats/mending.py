@@ -56,7 +56,6 @@ def choices(parts, many):
 
 def least_notices(machine):
     """All lists of the fewest in-lines on which it must be noticed to be alike; None if no notices help."""
-    check_unnoticed(machine)
     ins = machine.ins
     for many in range(len(ins) + 1):
         found = [lines for lines in choices(ins, many) if do_notices_help(machine, lines)]

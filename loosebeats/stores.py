@@ -6,7 +6,7 @@ from loosebeats.checks import check_streams
 from loosebeats.contents import Contents
 from loosebeats.errors import InvalidRooms, InvalidRun, NoStore, SharedLine, TooMany
 from loosebeats.kinds import are_streams, is_line, is_name, is_tuple
-from loosebeats.machines import MOST_INS, Machine
+from loosebeats.machines import Machine
 from loosebeats.searches import Search
 
 MOST_STORES = 2
@@ -177,11 +177,10 @@ def with_rooms(machine, rooms):
     """The Machine that takes a 0 from a room for each worth that it gives on the room's out-line."""
     if not are_rooms(machine, rooms):
         raise InvalidRooms(rooms)
-    if len(machine.ins) + len(rooms) > MOST_INS:
-        raise TooMany("ins", MOST_INS)
     ins = machine.ins + [rooms[line] for line in machine.outs if line in rooms]
     reactions = []
     for standing, takes, gives, goal in machine.reactions():
         needs = {rooms[line]: 0 for line in gives if line in rooms}
         reactions.append((standing, {**takes, **needs}, gives, goal))
+    # This raises TooMany if there are too many in-lines then.
     return Machine(ins, machine.outs, machine.standings, reactions)

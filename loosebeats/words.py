@@ -28,9 +28,9 @@ def placed_in(words, lines):
     found = {}
     places = []
     for word in words:
-        line, sign, digit = word.partition("=")
+        line, _, digit = word.partition("=")
         worth = worth_in(digit)
-        if sign == "" or line not in lines or worth is None:
+        if line not in lines or worth is None:
             return None
         places.append(lines.index(line))
         found[line] = worth

@@ -296,6 +296,7 @@ class Tell(Case):
         wrong += ["come a 0 ", "come a  0", "come a 0  1", "come a 00", "come a 0,1", "come a 0 b 0", "come  a 0", "come A 0"]
         wrong += ["can ", "can 1", " can", "line", "line ", "line c", "line a ", "line  a", "line a b", "line A", "line 0"]
         wrong += ["standing 0", "standing ", " ", "  ", "\n", "-", "done", "do " + "9" * 5000, "come a " + "1" * 5000, "run"]
+        wrong += ["go a 0", "comes a 0", "Come a 0", "do a 0", "line a 0", "come", "a 0", "come 0 a", " a 0", "can a 0"]
         wrong += ["in a", "state", "len", "do True", "do 1.0", "do 0x1", "do one", "undo\n", "can\n", "line a\n", "tell can"]
         for command in wrong:
             self.refused(InvalidCommand, {"value": command}, desk.tell, command)

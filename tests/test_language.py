@@ -101,6 +101,34 @@ class Language(unittest.TestCase):
             for decorator in node.decorator_list:
                 self.assertIn(ast.unparse(decorator), ["property", "staticmethod", "classmethod"])
 
+    def test_l5_nothing_is_added_in_place_where_a_class_has_iadd(self):
+        self.assertEqual([(name, node.lineno) for name, node in nodes(ast.AugAssign)], [])
+
+    def test_l5_l23_nothing_is_yielded(self):
+        self.assertEqual([(name, node.lineno) for name, node in nodes((ast.Yield, ast.YieldFrom))], [])
+
+    def test_l5_objects_that_are_indexed_are_not_iterated_over(self):
+        for name, node in nodes(ast.ClassDef):
+            own = {part.name: part for part in node.body if isinstance(part, ast.FunctionDef)}
+            if "__getitem__" in own:
+                (row,) = own["__iter__"].body
+                self.assertIsInstance(row, ast.Raise, name)
+
+    def test_l6_exit_is_plain(self):
+        for name, node in nodes(ast.FunctionDef):
+            if node.name == "__exit__":
+                self.assertEqual([part.arg for part in node.args.args], ["self", "kind", "value", "trace"])
+                for row in node.body:
+                    self.assertIsInstance(row, ast.Assign, name)
+                    self.assertIsInstance(row.targets[0], ast.Attribute)
+                    self.assertIsInstance(row.value, (ast.Attribute, ast.Name))
+
+    def test_l6_patterns_are_plain_strings(self):
+        for name, node in nodes(ast.pattern):
+            self.assertIsInstance(node, (ast.MatchValue, ast.MatchOr), name)
+            if isinstance(node, ast.MatchValue):
+                self.assertIsInstance(ast.literal_eval(node.value), str)
+
     def test_l6_l7_nodes(self):
         for name, node in nodes(ast.AST):
             self.assertNotIsInstance(node, NOT_AT_ALL, name)

@@ -179,6 +179,11 @@ class Greatest(Case):
             if told is not None:
                 self.assertTrue(is_ring_by_hand(machine, "a", "b", told))
 
+    def test_a_ring_for_which_the_best_reaction_stands_behind_others(self):
+        rows = [(0, {"a": 0}, {}, 1), (1, {"b": 0}, {}, 0), (1, {"a": 0, "b": 0}, {}, 0), (1, {"b": 1}, {}, 0)]
+        machine = Machine(["a", "b"], [], 2, rows)
+        self.assertEqual([greatest_lead(machine, "a", "b"), ring(machine, "a", "b")], [None, ([], [0, 2])])
+
     def test_standings_that_are_not_reached(self):
         machine = Machine(["a", "b"], [], 3, [(0, {"b": 0}, {}, 0), (1, {"a": 0}, {}, 1), (2, {"a": 0}, {}, 0)])
         self.assertEqual([greatest_lead(machine, "a", "b"), heights(machine, "a", "b")], [0, {0: 0}])

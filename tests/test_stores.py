@@ -593,6 +593,13 @@ class Enough(Case):
         self.assertIs(are_always_enough(more, (2,)), False)
         self.assertTrue(is_standstill_by_hand(more, (2,), standstill(more, (2,))))
         self.refused(TooMany, refused, always_least, more)
+        # Lesser sizes may be enough with few, but the greatest ones tell whether there are too many.
+        rows = [(0, {"a": w}, {"o": w}, 0) for w in range(10)]
+        second = [(k, {"o": w}, {}, 1 - k) for k in (0, 1) for w in range(10)]
+        eater = Pair(Machine(["a"], ["o"], 1, rows), Machine(["o"], [], 2, second))
+        self.assertEqual(len(come_to_by_hand(eater, (3,))), 2222)
+        self.assertIs(are_always_enough(eater, (1,)), True)
+        self.refused(TooMany, refused, always_least, eater)
         # No limit where a standstill is only judged.
         endless = Pair(Machine(["a"], ["o"], 1, just.first.reactions() + [(0, {"a": 7}, {"o": 7}, 0)]), stepping(5))
         value = ({"a": [0] * 4}, [(0, 0)] * 3)
