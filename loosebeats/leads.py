@@ -33,8 +33,10 @@ def greatest_at(rises, leads):
     return more
 
 
-def lead_heights(machine, line, other):
-    """For each reached standing the greatest lead of runs to it; None if the lead is endless."""
+def heights(machine, line, other):
+    """Heights whose greatest is the greatest lead: the greatest leads of runs to each standing;
+    None if it is endless."""
+    check_two(machine, line, other)
     rises = rises_of(machine, line, other)
     leads = {0: 0}
     # A run that comes to no standing twice has fewer reactions than there are standings.
@@ -47,15 +49,8 @@ def lead_heights(machine, line, other):
 
 def greatest_lead(machine, line, other):
     """The greatest lead of a line before another one; None if it is endless."""
-    check_two(machine, line, other)
-    told = lead_heights(machine, line, other)
+    told = heights(machine, line, other)
     return None if told is None else max(list(told.values()))
-
-
-def heights(machine, line, other):
-    """Heights whose greatest is the greatest lead; None if it is endless."""
-    check_two(machine, line, other)
-    return lead_heights(machine, line, other)
 
 
 def are_heights(machine, line, other, most, value):

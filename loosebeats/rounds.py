@@ -11,14 +11,21 @@ from loosebeats.ways import first_shortest
 MOST_COUNTS = 12
 
 
+def rank_by(reaction, line, known):
+    """The rank of its standing if this reaction is done there; None as long as its next has none."""
+    if has_line(reaction, line):
+        return 1
+    goal = reaction[3]
+    return known[goal] + 1 if goal in known else None
+
+
 def next_ranks(rows, line, known):
     """The ranks that are known, with those of one reaction more."""
     more = dict(known)
     for _, row in rows:
-        standing, _, _, goal = row
-        rank = 1 if has_line(row, line) else known[goal] + 1 if goal in known else None
+        rank = rank_by(row, line, known)
         if rank is not None:
-            more[standing] = min(rank, more.get(standing, rank))
+            more[row[0]] = min(rank, more.get(row[0], rank))
     return more
 
 
