@@ -3,13 +3,15 @@
 A STATE is a tuple (standing, standing, contents, spots): unlike runs that come to one go on
 alike. What one machine does neither hinders what the other one could do, nor changes what
 comes of it; so where no step of one machine waits for the other one, only its steps are
-looked at: all ENDs are come to all the same, with far fewer states.
+looked at, and of the second machine only one that lasts, if there is one: all ENDs are come
+to all the same, with far fewer states.
 """
 
 from loosebeats.beats import have_room, sides_of
 from loosebeats.contents import can_draw, contents_behind, held_in
 from loosebeats.errors import TooMany
 from loosebeats.forks import flows_ahead
+from loosebeats.lasting import lasting
 from loosebeats.runs import MOST_ENDS
 from loosebeats.steps import can_take, queues_of, spots_behind
 
@@ -37,6 +39,7 @@ class Search:
         self._flows = tuple([() for _ in pair.outs])
         self._contents = tuple([() for _ in pair.stores])
         self._ends = {}
+        self._lasting = lasting(self._sides[1])
 
     def begin(self):
         """The state at which each run begins."""
@@ -64,6 +67,9 @@ class Search:
         moves = [(0, step) for step in ones]
         moves_too = [(1, step) for step in others]
         # The second machine goes first, so that little stands in the stores.
+        for move in moves_too:
+            if move[1][0] in self._lasting:
+                return [move]
         if len(moves_too) > 0 and not wait:
             return moves_too
         if len(moves) > 0 and not lack:

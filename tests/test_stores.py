@@ -43,6 +43,7 @@ from samples import (
     odd_values,
     pair_tables,
     pair_walk,
+    part,
     race,
     small_streams,
     some_pair,
@@ -99,6 +100,26 @@ def either(many):
     """A first machine that gives so many worths on o or on p, as it comes, and a second one that takes none."""
     rows = [(k, {"a": 0}, {line: 0}, k + 1) for k in range(many) for line in "op"]
     return Pair(Machine(["a"], ["o", "p"], many + 1, rows), Machine(["p", "o"], [], 1, []))
+
+
+def nearly_beside(rng):
+    """Two machines beside each other that take from o and from p, with some reactions changed, added or left out."""
+    one = part(rng, ["o", "c"][: rng.randint(1, 2)], ["y"][: rng.randint(0, 1)], 2, 3, 0.5)
+    other = part(rng, ["p"], ["z"][: rng.randint(0, 1)], 2, 3, 0.5)
+    both = one | other
+    rows = both.reactions()
+    for _ in range(rng.randint(0, 3)):
+        if rows and rng.random() < 0.5:
+            rows.pop(rng.randrange(len(rows)))
+        elif rows:
+            _, takes, gives, _ = rng.choice(rows)
+            row = (rng.randrange(both.standings), takes, gives, rng.randrange(both.standings))
+            rows += [row] * (row not in rows)
+    if both.outs == ["y", "z"] and rng.random() < 0.4:
+        # Both give on one line: there it matters which comes first.
+        rows = [(at, takes, {"y": w for w in gives.values()}, to) for at, takes, gives, to in rows]
+        rows = [row for k, row in enumerate(rows) if row not in rows[:k]]
+    return Machine(both.ins, both.outs, both.standings, rows)
 
 
 def all_bounds(pair, sizes=SIZES):
@@ -381,6 +402,55 @@ class Ends(Case):
             streams = {line: [int(rng.random() < 0.2) for _ in range(rng.randint(0, 4))] for line in pair.ins}
             sizes = rng.choice([tuple(None for _ in pair.stores), *all_bounds(pair)])
             self.assertEqual(pair_ends(pair, streams, sizes), ends_by_hand(pair, streams, sizes))
+
+    def test_second_machines_that_are_nearly_two_beside_each_other(self):
+        # Of steps that do not touch only one is looked at: just where it makes no difference.
+        rng = random.Random(713)
+        many = 0
+        for _ in range(500):
+            first = part(rng, ["a", "b"][: rng.randint(1, 2)], ["o", "p"], 2, 5, 0.7)
+            pair = Pair(first, nearly_beside(rng))
+            streams = {line: [int(rng.random() < 0.2) for _ in range(rng.randint(0, 2))] for line in pair.ins}
+            for sizes in rng.sample(all_bounds(pair, (1, 2, None)), 3):
+                expected = pair_tables(pair, streams, sizes)
+                told = pair_ends(pair, streams, sizes)
+                self.assertEqual(told, sorted(table.end() for table in expected), (pair, streams, sizes))
+                enough = not any(table.lacks_room() for table in expected)
+                self.assertIs(are_enough(pair, streams, sizes), enough, (pair, streams, sizes))
+                many += len(told) > 1
+        self.assertGreater(many, 100)
+
+    def test_where_it_matters_what_comes_first(self):
+        first = Machine(["a"], ["o", "p"], 1, [(0, {"a": 0}, {"o": 0, "p": 0}, 0)])
+        on_one_line = [(0, {"o": 0}, {"y": 1}, 0), (0, {"p": 0}, {"y": 2}, 0)]
+        pair = Pair(first, Machine(["o", "p"], ["y", "z"], 1, on_one_line))
+        told = pair_ends(pair, {"a": [0]})
+        self.assertEqual([end[4] for end in told], [((1, 2), ()), ((2, 1), ())])
+        on_two = [(0, {"o": 0}, {"y": 1}, 0), (0, {"p": 0}, {"z": 2}, 0)]
+        pair = Pair(first, Machine(["o", "p"], ["y", "z"], 1, on_two))
+        self.assertEqual([end[4] for end in pair_ends(pair, {"a": [0]})], [((1,), (2,))])
+        # Behind the one the other one leads elsewhere, or not at all, or there is a third one for both.
+        elsewhere = [(0, {"o": 0}, {}, 1), (0, {"p": 0}, {}, 2), (1, {"p": 0}, {}, 3), (2, {"o": 0}, {}, 4)]
+        for rows, standings in [(elsewhere, [3, 4]), (elsewhere[:3], [2, 3]), (elsewhere[:2], [1, 2])]:
+            pair = Pair(first, Machine(["o", "p"], [], 5, rows))
+            self.assertEqual([end[1] for end in pair_ends(pair, {"a": [0]})], standings)
+        third = on_two + [(0, {"o": 0, "p": 0}, {}, 0)]
+        pair = Pair(first, Machine(["o", "p"], ["y", "z"], 1, third))
+        self.assertEqual([end[4] for end in pair_ends(pair, {"a": [0]})], [((), ()), ((1,), (2,))])
+
+    def test_far_more_contents_than_ends(self):
+        rows = [(0, {"a": 0}, {"o": w, "p": v}, 0) for w in range(10) for v in range(4)]
+        eaters = [(0, {"o": w}, {}, 0) for w in range(10)] + [(0, {"p": v}, {}, 0) for v in range(10)]
+        pair = Pair(Machine(["a"], ["o", "p"], 1, rows), Machine(["p", "o"], ["y"], 1, eaters))
+        begun = time.monotonic()
+        for sizes in (None, (3, 3), (None, 1)):
+            told = pair_ends(pair, {"a": [0] * 12}, sizes)
+            self.assertEqual(told, [(0, 0, ((), ()), ((),), ((),))])
+        self.assertEqual(least_sizes(pair, {"a": [0] * 12}), [(1, 1)])
+        rows = [(0, {line: 0}, {store: w}, 0) for line, store in ("ao", "bp") for w in range(10)]
+        apart = Pair(Machine(["a", "b"], ["o", "p"], 1, rows), pair.second)
+        self.assertEqual(pair_ends(apart, {"a": [0] * 6, "b": [0] * 6}), [(0, 0, ((), ()), ((), ()), ((),))])
+        self.assertLess(time.monotonic() - begun, 20)
 
     def test_alike_machines_have_one_end_without_bounds(self):
         rng = random.Random(712)
