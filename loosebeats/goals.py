@@ -28,7 +28,7 @@ def spots_of_parts(flows, strides, whole):
     """For each part, up to the whole of the flows, its spots."""
     sizes = [len(flow) + 1 for flow in flows]
     return [
-        [part // stride % size for stride, size in zip(strides, sizes)]
+        [int(part // stride) % size for stride, size in zip(strides, sizes)]
         for part in range(whole + 1)
     ]
 

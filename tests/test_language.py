@@ -138,6 +138,15 @@ class Language(unittest.TestCase):
     def test_l7_no_generator_expression_where_a_class_has_eq(self):
         self.assertEqual([(name, node.lineno) for name, node in nodes(ast.GeneratorExp)], [])
 
+    def test_l7_l27_the_left_side_of_a_remainder_is_plainly_a_number(self):
+        for name, node in nodes(ast.BinOp):
+            if isinstance(node.op, ast.Mod):
+                if isinstance(node.left, ast.Call):
+                    self.assertIn(ast.unparse(node.left.func), ["int", "len"], (name, node.lineno))
+                else:
+                    self.assertIsInstance(node.left, ast.Constant, (name, node.lineno))
+                    self.assertIs(type(node.left.value), int, (name, node.lineno))
+
     def test_l8_l15_builtins(self):
         for name, node in nodes(ast.Name):
             if hasattr(builtins, node.id):
